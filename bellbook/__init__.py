@@ -1,0 +1,1 @@
+"""Bellbook: a bourse whose facts can be gone through again."""
