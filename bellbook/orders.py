@@ -3,7 +3,11 @@
 from bellbook.errors import BadNumber
 from bellbook.ground import checked_amount, checked_name, checked_number, checked_price, checked_side
 
-# The places of those parts of an order that change or that changes go by.
+# The places of an order's parts.
+NAME = 0
+WHO = 1
+SIDE = 2
+PRICE = 3
 LEFT = 4
 SHOWN = 5
 PEAK = 6

@@ -24,6 +24,41 @@ ARGUMENTS = {
         "allows": "(side, limit, price)",
         "other_side": "(side)",
     },
+    "line": {
+        "joined": "(line, order)",
+        "place_of": "(line, name)",
+        "without": "(line, name)",
+        "with_less": "(line, name, left)",
+        "served": "(line, amount)",
+        "total": "(line)",
+        "view": "(line)",
+        "is_line": "(orders, side)",
+    },
+    "meet": {
+        "met": "(order, line, last, leap)",
+        "could": "(order, line, last, leap)",
+    },
+    "kinds": {
+        "kind_of": "(word)",
+        "entered": "(word, order, line, last, leap)",
+    },
+    "curve": {
+        "wanted": "(buys, price)",
+        "offered": "(sells, price)",
+        "volume": "(buys, sells, price)",
+        "surplus": "(buys, sells, price)",
+        "limits": "(buys, sells)",
+    },
+}
+
+METHODS = {
+    "kinds": {
+        "Kind": {"lets": "(crosses, amount, wanted)", "keeps": "()"},
+        "Limit": {"lets": "(crosses, amount, wanted)", "keeps": "()"},
+        "Now": {"lets": "(crosses, amount, wanted)", "keeps": "()"},
+        "Whole": {"lets": "(crosses, amount, wanted)", "keeps": "()"},
+        "Quiet": {"lets": "(crosses, amount, wanted)", "keeps": "()"},
+    },
 }
 
 
@@ -34,6 +69,14 @@ class InterfaceTest(unittest.TestCase):
                 with self.subTest(module=module, name=name):
                     function = getattr(import_module("bellbook." + module), name)
                     self.assertEqual(str(inspect.signature(function)), arguments)
+
+    def test_each_method_has_its_arguments(self):
+        for module, classes in METHODS.items():
+            for name, methods in classes.items():
+                made = getattr(import_module("bellbook." + module), name)()
+                for method, arguments in methods.items():
+                    with self.subTest(module=module, name=name, method=method):
+                        self.assertEqual(str(inspect.signature(getattr(made, method))), arguments)
 
 
 if __name__ == "__main__":

@@ -145,6 +145,24 @@ class LanguageTest(unittest.TestCase):
             return [node.arg]
         return []
 
+    def test_no_local_is_called_like_a_class_or_an_import_of_its_file(self):
+        for name, tree in trees():
+            taken = [node.name for node in tree.body if isinstance(node, ast.ClassDef)]
+            for node in tree.body:
+                if isinstance(node, ast.ImportFrom):
+                    taken += [alias.asname or alias.name for alias in node.names]
+            for node in ast.walk(tree):
+                local = isinstance(node, ast.arg) or isinstance(getattr(node, "ctx", None), ast.Store)
+                with self.subTest(file=name, line=getattr(node, "lineno", 0)):
+                    self.assertFalse(local and set(self.words(node)) & set(taken))
+
+    def test_is_stands_beside_none_true_and_false_alone(self):
+        for name, node in nodes():
+            if isinstance(node, ast.Compare) and any(isinstance(sign, (ast.Is, ast.IsNot)) for sign in node.ops):
+                with self.subTest(file=name, line=node.lineno):
+                    self.assertIsInstance(node.comparators[0], ast.Constant)
+                    self.assertIn(node.comparators[0].value, [None, True, False])
+
     def test_methods(self):
         own = [node.name for name, node in nodes() if isinstance(node, ast.FunctionDef)]
         for name, node in nodes():
