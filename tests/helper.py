@@ -1,5 +1,8 @@
-"""Orders and lines that several tests use."""
+"""Orders, lines and floors that several tests use."""
 
+import unittest
+
+from bellbook.floor import Floor
 from bellbook.line import joined
 from bellbook.orders import made
 
@@ -19,5 +22,37 @@ def line_of(*orders):
     return line
 
 
+def numbered(side, *parts):
+    """A line of that side: orders of these prices, amounts and peaks, named b0, b1 .. or s0, s1 .. as they come."""
+    return line_of(*[made(side[0] + str(place), "ann", side, *part) for place, part in enumerate(parts)])
+
+
 def names(line):
     return [order[0] for order in line]
+
+
+def across(buys, sells):
+    """The pairs of names of a buyer and a seller whose price the buyer's limit allows."""
+    return [(one[0], other[0]) for one in buys for other in sells if one[3] >= other[3]]
+
+
+def floor_in(phase, *orders, mark=100, leap=10):
+    """A floor in that phase; the orders, which stand apart from one another, joined their lines."""
+    floor = Floor(mark, leap)
+    for order in orders:
+        floor.enter("limit", order)
+    if phase != "call":
+        floor.turn(phase)
+    return floor
+
+
+class FloorCase(unittest.TestCase):
+    def assert_look(self, floor, phase, last, buys, sells, asleep=()):
+        self.assertEqual(floor.look(), (phase, last, buys, sells, list(asleep)))
+
+    def assert_refused(self, error, floor, method, *arguments):
+        before = floor.look()
+        with self.subTest(method=method, arguments=arguments, before=before):
+            with self.assertRaises(error):
+                getattr(floor, method)(*arguments)
+            self.assertEqual(floor.look(), before)

@@ -4,15 +4,9 @@ import unittest
 
 from bellbook.curve import limits, offered, surplus, volume, wanted
 from bellbook.orders import filled, lessened, made
-from tests.helper import line_of
+from tests.helper import numbered
 
 FAR = 10 ** 9
-
-
-def numbered(side, *parts):
-    """A line of that side: orders of these prices, amounts and peaks."""
-    return line_of(*[made(side[0] + str(place), "ann", side, *part) for place, part in enumerate(parts)])
-
 
 BUYS = numbered("buy", (30, 4), (20, 16, 2), (20, 1), (10, 5, 3))
 SELLS = numbered("sell", (15, 3), (20, 8, 1), (25, 2), (25, 7, 4))

@@ -49,7 +49,30 @@ ARGUMENTS = {
         "surplus": "(buys, sells, price)",
         "limits": "(buys, sells)",
     },
+    "call": {
+        "call_price": "(buys, sells, near)",
+        "called": "(buys, sells, near)",
+    },
+    "phases": {
+        "phase_of": "(word)",
+    },
+    "floor": {
+        "Floor": "(mark, leap)",
+    },
+    "need": {
+        "widest": "(hold, buys, sells)",
+        "slip": "(buys, sells, mark)",
+        "need": "(hold, buys, sells, mark, rate, fee)",
+        "worth": "(coins, owed, rows)",
+        "free": "(coins, owed, rows)",
+    },
+    "purse": {
+        "Purse": "()",
+    },
 }
+
+# What is handed in to make an object of a class that is made with something.
+MADE_WITH = {"Floor": (100, 10)}
 
 METHODS = {
     "kinds": {
@@ -58,6 +81,35 @@ METHODS = {
         "Now": {"lets": "(crosses, amount, wanted)", "keeps": "()"},
         "Whole": {"lets": "(crosses, amount, wanted)", "keeps": "()"},
         "Quiet": {"lets": "(crosses, amount, wanted)", "keeps": "()"},
+    },
+    "phases": {
+        "Phase": {"meets": "()", "takes": "(word)", "rests_asleep": "()", "leads": "(word)"},
+        "Open": {"meets": "()", "takes": "(word)", "rests_asleep": "()", "leads": "(word)"},
+        "Call": {"meets": "()", "takes": "(word)", "rests_asleep": "()", "leads": "(word)"},
+        "Halt": {"meets": "()", "takes": "(word)", "rests_asleep": "()", "leads": "(word)"},
+    },
+    "floor": {
+        "Floor": {
+            "enter": "(word, order)",
+            "lay": "(word, order, trigger)",
+            "take_out": "(name)",
+            "lessen": "(name, left)",
+            "turn": "(word)",
+            "find": "(name)",
+            "look": "()",
+            "open_of": "(who)",
+        },
+    },
+    "purse": {
+        "Purse": {
+            "move": "(coins)",
+            "set_by": "(coins)",
+            "take_by": "(coins)",
+            "spend_by": "(coins)",
+            "trade": "(ware, side, amount)",
+            "holding": "(ware)",
+            "look": "()",
+        },
     },
 }
 
@@ -73,7 +125,7 @@ class InterfaceTest(unittest.TestCase):
     def test_each_method_has_its_arguments(self):
         for module, classes in METHODS.items():
             for name, methods in classes.items():
-                made = getattr(import_module("bellbook." + module), name)()
+                made = getattr(import_module("bellbook." + module), name)(*MADE_WITH.get(name, ()))
                 for method, arguments in methods.items():
                     with self.subTest(module=module, name=name, method=method):
                         self.assertEqual(str(inspect.signature(getattr(made, method))), arguments)

@@ -33,6 +33,17 @@ WORDS = (
     r"NamedTuple|TypedDict|TYPE_CHECKING|abstractmethod)\b|dataclass|overload|contextmanager"
 )
 
+NOWHERE = "register mro elements open input version_info with_traceback add_note format format_map".split()
+
+NO_NAMES = (
+    "attrgetter breakpoint builtins compile copyright credits delattr dir eval exec exit gc getattr globals hasattr "
+    "help id importlib license locals methodcaller os quit setattr super type vars sys chr print __name__"
+).split()
+
+NO_VALUES = (
+    "items keys values pop update append clear extend insert remove reverse setdefault sort args encode format"
+).split()
+
 OWN_DUNDERS = ["__init__", "__eq__", "__repr__", "__str__", "__len__"]
 
 
@@ -144,6 +155,29 @@ class LanguageTest(unittest.TestCase):
         if isinstance(node, ast.arg):
             return [node.arg]
         return []
+
+    def test_names_that_are_not_used(self):
+        for name, node in nodes():
+            with self.subTest(file=name, line=getattr(node, "lineno", 0)):
+                for word in self.words(node):
+                    self.assertNotIn(word, NOWHERE)
+                    if not isinstance(node, ast.Attribute):
+                        self.assertNotIn(word, NO_NAMES)
+
+    def test_methods_and_values_of_objects(self):
+        methods = []
+        values = []
+        for name, node in nodes():
+            if isinstance(node, ast.ClassDef):
+                own = [part.name for part in node.body if isinstance(part, ast.FunctionDef)]
+                with self.subTest(file=name, name=node.name):
+                    self.assertEqual(len(own), len(set(own)))
+                    self.assertLessEqual(len(node.bases), 1)
+                methods += own
+            if isinstance(node, ast.Attribute) and isinstance(node.ctx, ast.Store):
+                values.append(node.attr)
+        self.assertEqual(set(methods) & set(values), set())
+        self.assertEqual(set(NO_VALUES) & set(values), set())
 
     def test_no_local_is_called_like_a_class_or_an_import_of_its_file(self):
         for name, tree in trees():
