@@ -1,7 +1,8 @@
-"""Orders, lines and floors that several tests use."""
+"""Orders, lines, floors, books of dues and thrown numbers that several tests use."""
 
 import unittest
 
+from bellbook.dues import owed
 from bellbook.floor import Floor
 from bellbook.line import joined
 from bellbook.orders import made
@@ -44,6 +45,28 @@ def floor_in(phase, *orders, mark=100, leap=10):
     if phase != "call":
         floor.turn(phase)
     return floor
+
+
+def book_of(*dues):
+    """The book in which these came to be owed, one behind the other."""
+    book = []
+    for debtor, creditor, amount in dues:
+        book = owed(book, debtor, creditor, amount)
+    return book
+
+
+class Dice:
+    """A row of numbers that is the same each time."""
+
+    def __init__(self, seed):
+        self.state = seed
+
+    def below(self, bound):
+        self.state = (self.state * 6364136223846793005 + 1442695040888963407) % 2 ** 64
+        return (self.state >> 33) % bound
+
+    def one_of(self, choices):
+        return choices[self.below(len(choices))]
 
 
 class FloorCase(unittest.TestCase):

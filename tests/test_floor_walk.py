@@ -6,7 +6,7 @@ from bellbook.errors import BadKind, BadNumber, BadPhase, BourseError, NoOrder, 
 from bellbook.floor import Floor
 from bellbook.line import is_line
 from bellbook.orders import made
-from tests.helper import across
+from tests.helper import Dice, across
 from tests.test_call import price_by_words, trades_by_words
 
 LEADS = {"open": ["call", "halt"], "call": ["open", "halt"], "halt": ["call"]}
@@ -183,20 +183,6 @@ class Model:
         elif first.shown == 0:
             first.show_anew()
             first.stamp = self.stamp()
-
-
-class Dice:
-    """A row of numbers that is the same each time."""
-
-    def __init__(self, seed):
-        self.state = seed
-
-    def below(self, bound):
-        self.state = (self.state * 6364136223846793005 + 1442695040888963407) % 2 ** 64
-        return (self.state >> 33) % bound
-
-    def one_of(self, choices):
-        return choices[self.below(len(choices))]
 
 
 def thrown_order(dice):

@@ -69,6 +69,23 @@ ARGUMENTS = {
     "purse": {
         "Purse": "()",
     },
+    "dues": {
+        "owed": "(book, debtor, creditor, amount)",
+        "net_of": "(book, who)",
+        "nets": "(book)",
+        "transfers": "(nets)",
+    },
+    "rings": {
+        "ring": "(book)",
+        "ringless": "(book)",
+        "ranks": "(book)",
+    },
+    "tear": {
+        "torn": "(hold, others)",
+    },
+    "bear": {
+        "borne": "(loss, fund, chest, funds, worths)",
+    },
 }
 
 # What is handed in to make an object of a class that is made with something.
